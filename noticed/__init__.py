@@ -1,0 +1,1 @@
+"""Noticed: orders told by a least difference."""

@@ -1,0 +1,71 @@
+"""Wrong inputs of every kind but numbers with a point."""
+
+
+class Touchy:
+    """A thing that must not be compared or used as a key."""
+
+    def __eq__(self, other):
+        raise RuntimeError("compared")
+
+    def __lt__(self, other):
+        raise RuntimeError("compared")
+
+    __gt__ = __le__ = __ge__ = __ne__ = __lt__
+    __hash__ = None
+
+    def __repr__(self):
+        raise RuntimeError("shown")
+
+    __str__ = __bool__ = __len__ = __iter__ = __repr__
+
+
+def within_itself():
+    things = []
+    things.append(things)
+    return things
+
+
+def is_empty_tuple(thing):
+    return isinstance(thing, tuple) and len(thing) == 0
+
+
+def no_whole_numbers():
+    return [None, True, False, "", "1", "two", b"1", (), (1,), [], [1], {}, {1: 1}, {1}, frozenset(),
+            object(), int, len, range(3), Touchy(), within_itself(), Ellipsis, 1j, iter(())]
+
+
+def no_orders():
+    found = no_whole_numbers() + [0, 1, 8, -1]
+    found += [(1, (), ()), [1, ()], {1: ()}, "1:", ((), 1)]
+    found += [(many, ()) for many in no_whole_numbers() + [0, -1, 9, 10 ** 30, -10 ** 30]]
+    found += [(2, pairs) for pairs in no_whole_numbers() + [(0,), (1,)] if not is_empty_tuple(pairs)]
+    found += [(2, [(0, 1)]), (2, {(0, 1)}), (2, {(0, 1): True}), (2, (0, 1)), (2, iter([(0, 1)]))]
+    found += [(2, (pair,)) for pair in no_whole_numbers()]
+    found += [(2, ((0, 1), pair)) for pair in no_whole_numbers()]
+    found += [(2, ((0,),)), (2, ((0, 1, 1),)), (2, ([0, 1],)), (2, ("01",)), (2, ({0, 1},))]
+    found += [(2, ((thing, 1),)) for thing in no_whole_numbers() + [2, -1, 10 ** 30]]
+    found += [(2, ((0, thing),)) for thing in no_whole_numbers() + [2, -1, 10 ** 30]]
+    found += [(2, ((False, 1),)), (2, ((0, True),)), (2, ((False, True),)), (True, ())]
+    found += [(1, ((0, 0),)), (2, ((1, 1),)), (1, ((0, 1),)), (8, ((0, 8),)), (8, ((8, 0),))]
+    found += [(2, ((0, 1), (0, 1))), (2, ((1, 0), (0, 1))), (3, ((0, 2), (0, 1))), (3, ((0, 1), (1, 2), (0, 2)))]
+    found += [(3, ((0, 1), (0, 2), (0, 2), (1, 2))), (9, ((0, 1),)), (0, ((0, 1),))]
+    return found
+
+
+def no_steps():
+    return no_whole_numbers() + [0, -1, 1000, 1001, 10 ** 30, -999]
+
+
+def no_things(many):
+    return no_whole_numbers() + [-1, many, many + 1, 10 ** 30, -10 ** 30]
+
+
+def no_numbers(many):
+    rest = (0,) * (many - 1)
+    # a tuple of whole numbers may be numbers of other things, so only the empty one is surely none
+    found = [thing for thing in no_whole_numbers() if not isinstance(thing, tuple)]
+    found += [(), 0, 5]
+    found += [[0] * many, {0: 0}, iter([0] * many), range(many)]
+    found += [(number,) + rest for number in no_whole_numbers() + [-1, 10000, 10 ** 30]]
+    found += [rest + (number,) for number in no_whole_numbers() + [-1, 10000, 10 ** 30]]
+    return found
