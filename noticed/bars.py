@@ -1,6 +1,7 @@
 """Bars: four things for which no numbers can tell an order."""
 
 from noticed.checks import is_thing, need_order
+from noticed.errors import Barred
 
 
 def bars_as_two(pairs, a, b, c, d):
@@ -39,6 +40,11 @@ def bar(order):
     if found is None:
         found = first_three(order[0], order[1])
     return found
+
+
+def need_unbarred(order):
+    if bar(order) is not None:
+        raise Barred("four things bar this order, so no numbers tell it")
 
 
 def has_form(thing, many):

@@ -4,11 +4,12 @@ Things of any kind may come here, so nothing is compared or used as a key
 before its kind is known.
 """
 
-from noticed.errors import NoNumbers, NoOrder, NoStep, NoThing
+from noticed.errors import NoNames, NoNumbers, NoOrder, NoStep, NoTelling, NoThing
 
 MOST_THINGS = 8
 MOST_STEP = 999
 MOST_NUMBER = 9999
+TELLING_WORDS = ("less", "more", "beside")
 
 
 def is_whole(value, low, high):
@@ -54,6 +55,18 @@ def is_numbers(value, fewest, most):
     return all([is_whole(number, 0, MOST_NUMBER) for number in value])
 
 
+def is_names(value, many):
+    if not isinstance(value, tuple) or not all([is_thing(name, many) for name in value]):
+        return False
+    return sorted(value) == list(range(many))
+
+
+def is_telling(value, many):
+    if not isinstance(value, tuple) or len(value) != many:
+        return False
+    return all([isinstance(word, str) and word in TELLING_WORDS for word in value])
+
+
 def need_order(value):
     if not is_order(value):
         raise NoOrder("an order is a tuple of how many things there are and a rising tuple of pairs")
@@ -72,3 +85,13 @@ def need_numbers(value, fewest, most):
 def need_thing(value, many):
     if not is_thing(value, many):
         raise NoThing("a thing is a whole number from 0 on, below how many things there are")
+
+
+def need_names(value, many):
+    if not is_names(value, many):
+        raise NoNames("names are a tuple of all things, each once")
+
+
+def need_telling(value, many):
+    if not is_telling(value, many):
+        raise NoTelling("a telling is a tuple of less, more or beside for each thing that is there")

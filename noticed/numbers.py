@@ -1,8 +1,7 @@
 """Numbers: the least ones behind an order, or a round that bars a threshold."""
 
-from noticed.bars import bar
+from noticed.bars import need_unbarred
 from noticed.checks import is_thing, need_order, need_step
-from noticed.errors import Barred
 
 
 def demand(pairs, step, one, other):
@@ -111,8 +110,7 @@ def is_round(order, step, thing):
 
 
 def least(order):
-    if bar(order) is not None:
-        raise Barred("four things bar this order, so no numbers tell it")
+    need_unbarred(order)
     # this ends, since some threshold is there for what nothing bars
     step = 1
     found = numbers(order, step)

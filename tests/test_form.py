@@ -131,8 +131,9 @@ class Form(unittest.TestCase):
     def test_names(self):
         for path in files():
             for name in bound(path):
-                self.assertTrue(name in DUNDERS or re.fullmatch(r"[A-Za-z][A-Za-z0-9_]*", name), name)
-                self.assertFalse(hasattr(builtins, name), name)
+                if name not in DUNDERS:
+                    self.assertRegex(name, r"\A[A-Za-z][A-Za-z0-9_]*\Z")
+                    self.assertFalse(hasattr(builtins, name), name)
             known = set(bound(path)) | {name for module, name in imported(path)} | ALLOWED_NAMES
             for node in nodes(path):
                 if isinstance(node, ast.Name):
@@ -152,6 +153,28 @@ class Form(unittest.TestCase):
             taken = {name for module, name in imported(path)}
             taken |= {node.name for node in nodes(path) if isinstance(node, ast.ClassDef)}
             self.assertEqual(set(inner) & taken, set())
+
+    def test_classes(self):
+        methods = set()
+        stored = set()
+        for path in files():
+            for node in nodes(path):
+                if isinstance(node, ast.ClassDef):
+                    self.assertLessEqual(len(node.bases), 1, place(path, node))
+                    self.assertEqual([node.decorator_list, node.keywords], [[], []], place(path, node))
+                    for part in node.body:
+                        self.assertIsInstance(part, (ast.FunctionDef, ast.Pass), place(path, part))
+                    names = [part.name for part in node.body if isinstance(part, ast.FunctionDef)]
+                    self.assertEqual(len(names), len(set(names)), place(path, node))
+                    methods.update(names)
+                if isinstance(node, ast.Attribute) and isinstance(node.ctx, ast.Store):
+                    self.assertIsInstance(node.value, ast.Name, place(path, node))
+                    stored.add(node.attr)
+        # L18: in the whole package no name is a method here and a value there
+        self.assertEqual(methods & stored, set())
+        for name in stored:
+            for kind in (str, int, list, tuple, dict, set, bytes):
+                self.assertFalse(hasattr(kind, name), name)
 
     def test_methods(self):
         own = {name for path in files() for name in bound(path)}

@@ -69,3 +69,29 @@ def no_numbers(many):
     found += [(number,) + rest for number in no_whole_numbers() + [-1, 10000, 10 ** 30]]
     found += [rest + (number,) for number in no_whole_numbers() + [-1, 10000, 10 ** 30]]
     return found
+
+
+def no_counts():
+    return no_whole_numbers() + [0, 4, 5, 8, -1, 10 ** 30, -10 ** 30]
+
+
+def no_names(many):
+    names = tuple(range(many))
+    found = [thing for thing in no_whole_numbers() if not isinstance(thing, tuple)]
+    found += [(), 0, many, names[1:], names + (many,), names + (0,), list(names), range(many), iter(names)]
+    found += [set(names), dict(zip(names, names)), tuple(thing + 1 for thing in names)]
+    for place in range(many):
+        for thing in no_things(many) + [other for other in names if other != place]:
+            found.append(names[:place] + (thing,) + names[place + 1:])
+    return found
+
+
+def no_tellings(many):
+    telling = ("beside",) * many
+    found = [thing for thing in no_whole_numbers()]
+    found += [(), telling[1:], telling + ("beside",), list(telling), iter(telling), set(telling), "beside", "l" * many]
+    found += [dict.fromkeys(range(many), "beside"), tuple(range(many))]
+    for place in range(many):
+        for word in no_whole_numbers() + [0, 1, -1, "Less", "less ", "l", "les", "equal", ("less",), b"less"]:
+            found.append(telling[:place] + (word,) + telling[place + 1:])
+    return found
