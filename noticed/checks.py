@@ -4,11 +4,12 @@ Things of any kind may come here, so nothing is compared or used as a key
 before its kind is known.
 """
 
-from noticed.errors import NoNames, NoNumbers, NoOrder, NoStep, NoTelling, NoThing
+from noticed.errors import NoNames, NoNumbers, NoOrder, NoSeveral, NoStep, NoTelling, NoThing
 
 MOST_THINGS = 8
 MOST_STEP = 999
 MOST_NUMBER = 9999
+MOST_SEVERAL = 3
 TELLING_WORDS = ("less", "more", "beside")
 
 
@@ -67,6 +68,21 @@ def is_telling(value, many):
     return all([isinstance(word, str) and word in TELLING_WORDS for word in value])
 
 
+def is_order_with_step(value):
+    if not isinstance(value, tuple) or len(value) != 2:
+        return False
+    return is_order(value[0]) and is_step(value[1])
+
+
+def is_several(value):
+    if not isinstance(value, list) or not 1 <= len(value) <= MOST_SEVERAL:
+        return False
+    if not all([is_order_with_step(part) for part in value]):
+        return False
+    counts = [order[0] for order, step in value]
+    return min(counts) == max(counts)
+
+
 def need_order(value):
     if not is_order(value):
         raise NoOrder("an order is a tuple of how many things there are and a rising tuple of pairs")
@@ -95,3 +111,8 @@ def need_names(value, many):
 def need_telling(value, many):
     if not is_telling(value, many):
         raise NoTelling("a telling is a tuple of less, more or beside for each thing that is there")
+
+
+def need_several(value):
+    if not is_several(value):
+        raise NoSeveral("several orders are a list of 1 to 3 tuples of an order and a threshold, of as many things")

@@ -66,6 +66,14 @@ def round_behind(origins, raised):
     return list(reversed(things))
 
 
+def things_in_round(many, demands):
+    origins = [None] * many
+    raised = raise_all(demands, [0] * many, origins)
+    if raised is None:
+        return None
+    return round_behind(origins, raised)
+
+
 def numbers(order, step):
     need_order(order)
     need_step(step)
@@ -75,11 +83,7 @@ def numbers(order, step):
 def round_of(order, step):
     need_order(order)
     need_step(step)
-    origins = [None] * order[0]
-    raised = raise_all(all_demands(order, step), [0] * order[0], origins)
-    if raised is None:
-        return None
-    return round_behind(origins, raised)
+    return things_in_round(order[0], all_demands(order, step))
 
 
 def are_unlike_things(value, many):
@@ -90,15 +94,8 @@ def are_unlike_things(value, many):
     return len(set(value)) == len(value)
 
 
-def comes_above_nothing(pairs, step, things):
-    total = 0
-    for place in range(len(things)):
-        # at place 0 this is the way from the last thing to the first one
-        by = demand(pairs, step, things[place - 1], things[place])
-        if by is None:
-            return False
-        total = total + by
-    return total > 0
+def come_above_nothing(demands):
+    return None not in demands and sum(demands) > 0
 
 
 def is_round(order, step, thing):
@@ -106,7 +103,9 @@ def is_round(order, step, thing):
     need_step(step)
     if not are_unlike_things(thing, order[0]) or len(thing) < 2:
         return False
-    return comes_above_nothing(order[1], step, thing)
+    # at place 0 this is the way from the last thing to the first one
+    demands = [demand(order[1], step, thing[place - 1], thing[place]) for place in range(len(thing))]
+    return come_above_nothing(demands)
 
 
 def least(order):

@@ -1,7 +1,9 @@
 """The document's words once more, by trying everything, to hold the program against."""
 
+import fractions
 import functools
 import itertools
+import re
 
 BARRED = [(2, ((0, 1), (1, 0))), (3, ((0, 1), (1, 2))), (3, ((0, 1), (1, 2), (2, 0))), (4, ((0, 1), (2, 3))),
           (4, ((0, 1), (0, 2), (1, 2))), (8, ((4, 5), (6, 7)))]
@@ -81,20 +83,7 @@ def least_by_trying(many, step):
 
 
 def least_by_ways(order, step):
-    """The greatest sum of demands on any way to a thing, or None where ways rise for ever."""
-    many, less = order[0], set(order[1])
-    none = -10 ** 9
-    far = [[0 if a == b else none for b in range(many)] for a in range(many)]
-    for a, b in itertools.permutations(range(many), 2):
-        if (a, b) in less:
-            far[a][b] = step
-        elif (b, a) not in less:
-            far[a][b] = 1 - step
-    for middle, a, b in itertools.product(range(many), repeat=3):
-        far[a][b] = max(far[a][b], far[a][middle] + far[middle][b])
-    if any(far[a][a] > 0 for a in range(many)):
-        return None
-    return tuple(max(far[a][b] for a in range(many)) for b in range(many))
+    return least_for_all([(order, step)])
 
 
 @functools.cache
@@ -166,3 +155,103 @@ def least_of_the_fewest(order, is_part):
             found.append(sorted(parts))
     fewest = min(len(parts) for parts in found)
     return min(parts for parts in found if len(parts) == fewest)
+
+
+def tells_of_two(order, one, other):
+    less, more = (one, other) in order[1], (other, one) in order[1]
+    return {(True, False): "first", (False, True): "second", (True, True): "both", (False, False): "none"}[less, more]
+
+
+def far(one, other):
+    return sum(tells_of_two(one, *two) != tells_of_two(other, *two)
+               for two in itertools.combinations(range(one[0]), 2))
+
+
+def nearest_ones(order):
+    """How far the nearest orders are that nothing bars, and all of these, rising."""
+    distances = {near: far(order, near) for near in unbarred(order[0])}
+    least = min(distances.values())
+    return least, sorted(near for near, distance in distances.items() if distance == least)
+
+
+def full_rows(order):
+    rows = itertools.permutations(range(order[0]))
+    return sorted(row for row in rows if all(row.index(less) < row.index(more) for less, more in order[1]))
+
+
+def part_ahead(rows, one, other):
+    return fractions.Fraction(sum(row.index(one) < row.index(other) for row in rows), len(rows))
+
+
+def random_several(chance, many, places):
+    """Several orders told by the same numbers, one of which may be another order."""
+    values = tuple(chance.randint(0, chance.choice((3, 9, 20))) for thing in range(many))
+    found = []
+    for place in range(places):
+        step = chance.randint(1, 9)
+        found.append((order_of(values, step), step))
+    if chance.random() < 0.5:
+        found[chance.randrange(places)] = (random_unbarred(chance, many), chance.randint(1, 9))
+    return found
+
+
+def demand_of_one(order, step, one, other):
+    if (one, other) in order[1]:
+        return step
+    return None if (other, one) in order[1] else 1 - step
+
+
+def least_for_all(several):
+    """The greatest sum of any order's demands on any way to a thing, or None where ways rise for ever."""
+    many = several[0][0][0]
+    none = -10 ** 9
+    ways = [[0 if a == b else none for b in range(many)] for a in range(many)]
+    for (order, step), a, b in itertools.product(several, range(many), range(many)):
+        by = demand_of_one(order, step, a, b)
+        if a != b and by is not None:
+            ways[a][b] = max(ways[a][b], by)
+    for middle, a, b in itertools.product(range(many), repeat=3):
+        ways[a][b] = max(ways[a][b], ways[a][middle] + ways[middle][b])
+    if any(ways[a][a] > 0 for a in range(many)):
+        return None
+    return tuple(max(ways[a][b] for a in range(many)) for b in range(many))
+
+
+def holds_round_for(several, parts):
+    total = 0
+    for number, (thing, place) in enumerate(parts):
+        following = parts[(number + 1) % len(parts)][0]
+        by = demand_of_one(several[place][0], several[place][1], thing, following)
+        if by is None:
+            return False
+        total += by
+    return total > 0
+
+
+def lists_of_parts(many, places):
+    """Every list of two or more unlike things, each with a place."""
+    for length in range(2, many + 1):
+        for things in itertools.permutations(range(many), length):
+            for chosen in itertools.product(range(places), repeat=length):
+                yield list(zip(things, chosen))
+
+
+def text_of(order):
+    return " ".join([str(order[0]) + ":"] + [str(less) + "<" + str(more) for less, more in order[1]])
+
+
+def order_in(text):
+    """The order that a text writes, or None."""
+    match = re.fullmatch("([1-8]):((?: [0-7]<[0-7])*)", text, re.ASCII)
+    if match is None:
+        return None
+    many, pairs = int(match[1]), [(int(part[0]), int(part[2])) for part in match[2].split()]
+    fine = all(less != more and less < many and more < many for less, more in pairs)
+    return (many, tuple(pairs)) if fine and pairs == sorted(set(pairs)) else None
+
+
+def text_of_keeper(order):
+    """What was told of the things of an order that a keeper has."""
+    letters = {"first": "m", "second": "l", "none": "b"}
+    return " ".join("".join(letters[tells_of_two(order, thing, newest)] for thing in range(newest))
+                    for newest in range(1, order[0]))

@@ -64,6 +64,8 @@ def bound(path):
     for node in nodes(path):
         if isinstance(node, ast.arg):
             names.append(node.arg)
+        elif isinstance(node, ast.ExceptHandler) and node.name is not None:
+            names.append(node.name)
         elif isinstance(node, (ast.FunctionDef, ast.ClassDef)):
             names.append(node.name)
         elif isinstance(node, ast.Name) and isinstance(node.ctx, ast.Store):
@@ -197,6 +199,32 @@ class Form(unittest.TestCase):
                     self.assertIn(node.value.__class__, (int, str, bool, None.__class__), place(path, node))
                     if isinstance(node.value, str):
                         self.assertNotIn("%", node.value, place(path, node))
+
+    def test_texts_with_values_hold_plain_names(self):
+        for path in files():
+            for node in nodes(path):
+                if isinstance(node, ast.FormattedValue):
+                    self.assertIsInstance(node.value, ast.Name, place(path, node))
+                    self.assertIsNone(node.format_spec, place(path, node))
+
+    def test_what_is_walked_at_once_is_not_kept(self):
+        walked = {"zip", "enumerate", "reversed", "range", "items", "keys", "values", "set", "frozenset"}
+        for path in files():
+            for node in nodes(path):
+                if isinstance(node, (ast.Assign, ast.Return)) and isinstance(node.value, ast.Call):
+                    called = node.value.func
+                    name = called.id if isinstance(called, ast.Name) else getattr(called, "attr", None)
+                    self.assertNotIn(name, walked, place(path, node))
+
+    def test_errors_are_taken_by_name(self):
+        own = set(defined(FOLDER / "errors.py"))
+        for path in files():
+            for node in nodes(path):
+                if isinstance(node, ast.ExceptHandler):
+                    self.assertIsInstance(node.type, ast.Name, place(path, node))
+                    self.assertIn(node.type.id, own, place(path, node))
+                if isinstance(node, ast.Raise):
+                    self.assertIsInstance(node.exc, ast.Call, place(path, node))
 
 
 if __name__ == "__main__":

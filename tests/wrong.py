@@ -95,3 +95,43 @@ def no_tellings(many):
         for word in no_whole_numbers() + [0, 1, -1, "Less", "less ", "l", "les", "equal", ("less",), b"less"]:
             found.append(telling[:place] + (word,) + telling[place + 1:])
     return found
+
+
+def no_rows(order):
+    """What is no full row of an order in which 0 is noticed to be less than another thing."""
+    names = tuple(range(order[0]))
+    return no_names(order[0]) + [names[::-1], names[1:] + (0,)]
+
+
+def no_several():
+    order, other = (2, ((0, 1),)), (3, ((0, 1),))
+    found = no_whole_numbers() + [0, 1, order, (order, 1), [order, 1], [order], [1, order], [(1, order)]]
+    found += [((order, 1),), {0: (order, 1)}, iter([(order, 1)]), {(order, 1)}, [(order, 1)] * 4, [(order, 1)] * 5]
+    found += [[(order, 1), (other, 1)], [(other, 1), (order, 1)], [(order, 1), (order, 2), (other, 1)]]
+    found += [[(order, 1), (other, 1), (order, 1)], [[order, 1]], [(order,)], [(order, 1, 1)], [((order, 1),)]]
+    found += [[(order, step)] for step in no_steps()]
+    found += [[(order, 1), (order, step)] for step in no_steps()]
+    found += [[(thing, 1)] for thing in no_orders()]
+    found += [[(order, 1), (thing, 1)] for thing in no_orders()]
+    found += [[part] for part in no_whole_numbers()]
+    found += [[(order, 1), (order, 1), part] for part in no_whole_numbers()]
+    return found
+
+
+def no_parts(several):
+    """What is no round for several orders, by its form alone."""
+    many, places = several[0][0][0], len(several)
+    found = no_whole_numbers() + [0, [(0, 0)], ((0, 0), (1, 0)), {0: 0, 1: 0}, iter([(0, 0), (1, 0)]), [0, 1]]
+    found += [[(0, 0), (1, 0), (0, 0)], [(0, 0), (0, 0)], [(0, 0), [1, 0]], [[0, 0], (1, 0)], [(0,), (1,)]]
+    found += [[(0, 0, 0), (1, 0, 0)], [(0, 0), (1, 0, 0)], [(0, 0), ()], [((0, 0), (1, 0))]]
+    for thing in no_things(many):
+        found += [[(thing, 0), (1, 0)], [(0, 0), (thing, 0)], [thing, (0, 0)], [(0, 0), (1, 0), thing]]
+    for place in no_things(places):
+        found += [[(0, place), (1, 0)], [(0, 0), (1, place)]]
+    return found
+
+
+def no_texts():
+    """What is no text, or the text of neither an order nor a keeper."""
+    found = [thing for thing in no_whole_numbers() if not isinstance(thing, str)]
+    return found + [0, 1, 8, (1, ()), (2, ((0, 1),)), b"1:", b"", ["1:"], ("1:",), ("m",), " ", "  ", "\n", "1", ":"]
